@@ -1,0 +1,1 @@
+"""An address server of many subnets, with a journal."""
