@@ -1,16 +1,18 @@
 """Why a row of the kinds 1 to 8 does not apply to what is kept: a refusal, or 0 if it does apply.
 
-The numbers are those of the row behind its time, each in its range already.
+The numbers are those of the row behind its time. A call's are in their ranges already; a row's that was read from
+bytes may be as great as its bytes allow.
 """
 
 from lentstretch.bounds import MOST_CLASSES, MOST_HOLES, MOST_LIMITS, MOST_OPTIONS, MOST_RESERVATIONS, MOST_SUBNETS
+from lentstretch.bounds import MOST_TIME, MOST_VALUE_BYTES
 from lentstretch.keeping import class_of, is_within, subnet_around
 from lentstretch.refusals import NO_SUBNET, NOT_FREE, NOT_THERE, THERE_ALREADY, TOO_MANY, UNFIT
 from lentstretch.rows import CLASS, HOLE, LIMIT, OPTION, RESERVATION, RESERVATION_GONE, SUBNET
 
 
-def are_subnet_numbers_unfit(first, last, least, usual, most, rest):
-    return last < first or least == 0 or usual < least or most < usual or rest == 0
+def are_subnet_numbers_fit(first, last, least, usual, most, rest):
+    return first <= last and 1 <= least <= usual <= most <= MOST_TIME and 1 <= rest <= MOST_TIME
 
 
 def is_any_shared(kept, first, last):
@@ -25,7 +27,7 @@ def judge_subnet(kept, numbers):
         return THERE_ALREADY
     if len(kept.subnets) >= MOST_SUBNETS:
         return TOO_MANY
-    if are_subnet_numbers_unfit(numbers[1], numbers[2], numbers[3], numbers[4], numbers[5], numbers[6]):
+    if not are_subnet_numbers_fit(numbers[1], numbers[2], numbers[3], numbers[4], numbers[5], numbers[6]):
         return UNFIT
     if is_any_shared(kept, numbers[1], numbers[2]):
         return NOT_FREE
@@ -75,10 +77,16 @@ def judge_limit(kept, subnet_id, class_number):
     return 0
 
 
-def judge_option(kept, scope, who, code):
-    if scope == 0 and who != 0:
-        return UNFIT
-    if scope in (1, 2) and who > 255:
+def is_scope_fit(scope, who):
+    if scope == 0:
+        return who == 0
+    if scope in (1, 2):
+        return who <= 255
+    return scope == 3
+
+
+def judge_option(kept, scope, who, code, value):
+    if not is_scope_fit(scope, who) or len(value) > MOST_VALUE_BYTES:
         return UNFIT
     if (scope, who, code) not in kept.options and len(kept.options) >= MOST_OPTIONS:
         return TOO_MANY
@@ -91,7 +99,7 @@ def judge_option_gone(kept, scope, who, code):
     return 0
 
 
-def judge(kept, kind, numbers):
+def judge(kept, kind, numbers, value):
     if kind == SUBNET:
         return judge_subnet(kept, numbers)
     if kind == HOLE:
@@ -105,5 +113,5 @@ def judge(kept, kind, numbers):
     if kind == LIMIT:
         return judge_limit(kept, numbers[0], numbers[1])
     if kind == OPTION:
-        return judge_option(kept, numbers[0], numbers[1], numbers[2])
+        return judge_option(kept, numbers[0], numbers[1], numbers[2], value)
     return judge_option_gone(kept, numbers[0], numbers[1], numbers[2])

@@ -2,6 +2,7 @@
 
 LENT = 0
 GIVEN_BACK = 1
+RESTING = 2
 
 
 class Subnet:
@@ -45,6 +46,10 @@ def is_over(record, time):
     return record.kind == GIVEN_BACK or record.end <= time
 
 
+def is_resting(record, time):
+    return record.kind == RESTING and time < record.end
+
+
 def is_within(subnet, address):
     return subnet.first <= address <= subnet.last
 
@@ -82,8 +87,8 @@ def live_records(kept, subnet, time):
 
 
 def standing_lease(kept, subnet, client, time):
-    for record in live_records(kept, subnet, time):
-        if record.client == client:
+    for record in kept.records.values():
+        if record.client == client and is_live(record, time) and is_within(subnet, record.address):
             return record
     return None
 

@@ -22,7 +22,7 @@ def tick(server, length):
 # and they are refused for just what keeps such a row from applying.
 def set_up(server, place, numbers, value):
     kind = place - 1
-    refusal = judge(server.kept, kind, numbers)
+    refusal = judge(server.kept, kind, numbers, value)
     if refusal != 0:
         return [refusal]
     return [write(server, kind, numbers, value)]

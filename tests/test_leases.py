@@ -3,12 +3,9 @@
 import unittest
 
 from helper import (
-    MOST_ADDRESS, TOP, ask, begin, class_of, discover, hole, last, lend, limit, renew, request, reserve, subnet, tick,
-    unreserve,
+    MOST_ADDRESS, TOP, ask, begin, class_of, discover, hole, joined, last, lend, limit, load, release, renew, request,
+    reserve, row, subnet, tick, unreserve,
 )
-from lentstretch.reading import read_calls
-from lentstretch.server import answer_call
-from lentstretch.state import Server
 
 # The length wanted and the length lent, in a subnet of 5, 10 and 100.
 LENGTHS = ((0, 10), (1, 5), (4, 5), (5, 5), (6, 6), (99, 99), (100, 100), (101, 100), (TOP, 100))
@@ -89,21 +86,23 @@ class Request(unittest.TestCase):
 
 class GreatestNumber(unittest.TestCase):
     def lent(self, count, room, *calls):
-        """What a request answers when count has come this far, which takes more calls than a test can make."""
-        server = Server()
-        for call in (begin(room), subnet(), discover(1, 5, 15), *calls):
-            answer_call(server, read_calls(call)[0])
-        server.kept.count = count
-        return answer_call(server, read_calls(request(5, 15))[0])
+        """What a request answers when count has come this far, which a row tells that is loaded."""
+        loaded = load(joined(row(1, 0, 1, 10, 19, 5, 10, 100, 7), row(13, 0, count)))
+        return last([begin(room), loaded, discover(1, 5, 15), *calls, request(5, 15)])
 
     def test_the_last_number_and_none_behind_it(self):
+        self.assertEqual(self.lent(TOP - 2, 1000), [TOP - 1, 10])
         self.assertEqual(self.lent(TOP - 1, 1000), [TOP, 10])
         self.assertEqual(self.lent(TOP, 1000), [-5])
 
+    def test_a_lease_of_the_last_number(self):
+        self.assertEqual(self.lent(TOP - 1, 1000, request(5, 15), tick(3), renew(5, 15, TOP)), [TOP, 13])
+        self.assertEqual(self.lent(TOP - 1, 1000, request(5, 15), release(5, 15, TOP), discover(1, 5, 15)), [-5])
+
     def test_order_of_refusals(self):
         self.assertEqual(self.lent(TOP, 1000, limit(1, 0, 0)), [-11])
-        self.assertEqual(self.lent(TOP, 64), [-5])
-        self.assertEqual(self.lent(TOP - 1, 64), [-9])
+        self.assertEqual(self.lent(TOP, 73), [-5])
+        self.assertEqual(self.lent(TOP - 1, 73), [-9])
 
 
 class RequestThatRenews(unittest.TestCase):

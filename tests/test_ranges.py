@@ -3,8 +3,8 @@
 import unittest
 
 from helper import (
-    HIGHEST, LOWEST, MOST_ADDRESS, MOST_CLIENT, TOP, ask, begin, discover, hole, last, lend, option, renew, request,
-    reserve, subnet, tick, unoption,
+    HIGHEST, LOWEST, MOST_ADDRESS, MOST_CLIENT, TOP, ask, begin, class_of, crash, decline, discover, ending, hole, last,
+    lease, leases, lend, limit, load, option, options, release, renew, request, reserve, subnet, tick, unoption, usage,
 )
 
 ADDRESS = (0, MOST_ADDRESS)
@@ -27,6 +27,18 @@ CALLS = {
     10: ([1, 5, -1, 5], [BYTE, CLIENT, (-1, MOST_ADDRESS), TIME]),
     11: ([5, 10, 5], [CLIENT, ADDRESS, TIME]),
     12: ([5, 10, 1, 5], [CLIENT, ADDRESS, TIME, TIME]),
+    13: ([5, 10, 1], [CLIENT, ADDRESS, TIME]),
+    14: ([5, 10, 1], [CLIENT, ADDRESS, TIME]),
+    15: ([1, 5, 0], [BYTE, CLIENT]),
+    16: ([10], [ADDRESS]),
+    17: ([5], [CLIENT]),
+    18: ([5, 5], [TIME, (0, 64)]),
+    19: ([1], [BYTE]),
+    20: ([], []),
+    21: ([0], []),
+    22: ([0], [(0, 0)]),
+    23: ([], []),
+    24: ([], []),
 }
 
 
@@ -59,26 +71,51 @@ class Ranges(unittest.TestCase):
                     self.assertEqual(last([begin(), option(0, 0, 1, value), tick(3)], 2), [[-2], [3]])
         self.assertEqual(last([begin(), option(0, 0, 1, [0, 255])]), [0])
 
+    def test_codes_of_at_most_64_bytes(self):
+        for size in (0, 1, 63, 64):
+            self.assertEqual(last([begin(), subnet(), options(1, 5, [7] * size), tick(3)], 2), [[0] * size, [3]])
+        for size in (65, 66, 70):
+            self.assertEqual(last([begin(), subnet(), options(1, 5, [7] * size), tick(3)], 2), [[-2], [3]])
+
+    def test_codes_of_bytes_alone(self):
+        for number in (-1, 256, LOWEST, HIGHEST):
+            for codes in ([number], [0, number], [number, 0], [1] * 63 + [number], [1] * 69 + [number]):
+                with self.subTest(codes=codes):
+                    self.assertEqual(last([begin(), subnet(), options(1, 5, codes), tick(3)], 2), [[-2], [3]])
+        self.assertEqual(last([begin(), subnet(), options(1, 5, [0, 255])]), [0, 0])
+
+    def test_load_may_have_more_than_an_option(self):
+        for size in (0, 1, 64, 65, 70, 71, 14999, 15000):
+            self.assertEqual(last([begin(15000), load([0] * size), tick(3)], 2), [[0, 0], [3]])
+        self.assertEqual(last([begin(14999), load([0] * 15000), tick(3)], 2), [[-2], [3]])
+
+    def test_k_up_to_the_length_of_the_journal(self):
+        for k, given in ((0, [1, 19]), (1, [0, 0]), (18, [0, 0]), (19, [0, 0]), (20, [-2]), (64, [-2]), (-1, [-2])):
+            self.assertEqual(last([begin(64), class_of(5, 1), crash(k)]), given)
+
 
 class Order(unittest.TestCase):
     def test_not_begun(self):
-        for place in range(1, 13):
+        for place in range(1, 25):
             with self.subTest(place=place):
                 self.assertEqual(ask([[place] + CALLS[place][0]]), [[-1]])
 
     def test_not_begun_ahead_of_out_of_range(self):
-        for place in range(1, 13):
-            for number in (LOWEST, HIGHEST):
+        for place in range(1, 25):
+            for number in (LOWEST, HIGHEST) if CALLS[place][1] else ():
                 with self.subTest(place=place, number=number):
                     self.assertEqual(ask([with_number(place, 0, number), begin()]), [[-1], [0]])
         self.assertEqual(ask([option(0, 0, 0, [256] * 70), begin()]), [[-1], [0]])
+        self.assertEqual(ask([options(0, 0, [256] * 70), load([256] * 70), begin()]), [[-1], [-1], [0]])
 
     def test_out_of_range_ahead_of_the_own_refusals(self):
         calls = [begin(), subnet(), *lend(5, 10), tick(1)]
         for call in (
-            subnet(1, 10, 9, -1), hole(2, 10, MOST_ADDRESS + 1), reserve(50, -1), [6, 5, -1], [7, 9, 9, -1],
+            subnet(1, 10, 9, -1), hole(2, 10, MOST_ADDRESS + 1), reserve(50, -1), class_of(5, -1), limit(9, 9, -1),
             option(0, 1, 256), option(0, 1, 1, [256]), unoption(3, 1, -1), discover(9, 5, -2), discover(9, 5, -1, -1),
             request(5, 50, -1), renew(5, 10, 2, -1), renew(5, 10, -1), tick(TOP + 1),
+            release(6, 10, -1), decline(6, 10, TOP + 1), options(9, -1), options(9, 5, [256]), options(9, 5, [1] * 65),
+            lease(-1), leases(-1), ending(0, 65), ending(-1, 0), usage(256), crash(92), crash(-1),
         ):
             with self.subTest(call=call):
                 self.assertEqual(last(calls + [call]), [-2])

@@ -1,29 +1,19 @@
-"""The journal: the bytes of each row, and the room that they take."""
+"""The journal: the bytes of each row that a call writes, what it then changes, and the room that it takes."""
 
 import unittest
 
 from helper import (
-    MOST_ADDRESS, MOST_CLIENT, TOP, ask, begin, class_of, discover, hole, last, lend, limit, option, renew, request,
-    reserve, subnet, tick, unoption, unreserve,
+    MOST_ADDRESS, MOST_CLIENT, TOP, ask, begin, class_of, crash, decline, discover, ending, hole, joined, journal, last,
+    lease, leases, lend, limit, load, offers, option, options, release, renew, request, reserve, row, subnet, tick,
+    unoption, unreserve, usage,
 )
 from lentstretch.reading import read_calls
 from lentstretch.rows import number_bytes, row_bytes, sum_of
 from lentstretch.server import answer_call
 from lentstretch.state import Server
 
-
-def plain_sum(row):
-    total = 1
-    for byte in row:
-        total = (total * 31 + byte + 1) % 65521
-    return total
-
-
-def plain_row(kind, numbers, value=()):
-    """A row from (number, width) pairs, by Python's own ways."""
-    body = b"".join(number.to_bytes(width, "big") for number, width in numbers) + bytes(value)
-    row = bytes([kind, len(body)]) + body
-    return list(row + plain_sum(row).to_bytes(2, "big"))
+SET_UP = [begin(), tick(3), subnet()]
+SUBNET_ROW = row(1, 3, 1, 10, 19, 5, 10, 100, 7)
 
 
 def served(calls):
@@ -33,7 +23,11 @@ def served(calls):
     return server
 
 
-SET_UP = [begin(), tick(3), subnet()]
+def stored(calls):
+    """The journal's bytes behind these calls."""
+    given = last(calls + [journal()])
+    assert given[0] == len(given) - 1, given
+    return given[1:]
 
 
 class Bytes(unittest.TestCase):
@@ -49,41 +43,53 @@ class Bytes(unittest.TestCase):
         self.assertEqual(sum_of([255, 255, 255]), ((31 * (31 * 287 + 256) + 256) % 65521))
 
     def test_a_row_written_out(self):
-        self.assertEqual(row_bytes(4, 3, [258], []), [4, 12, 0, 0, 0, 0, 0, 0, 0, 3, 0, 0, 1, 2, 238, 242])
+        plain = [4, 12, 0, 0, 0, 0, 0, 0, 0, 3, 0, 0, 1, 2, 238, 242]
+        self.assertEqual(row_bytes(4, 3, [258], []), plain)
+        self.assertEqual(stored([begin(), tick(3), subnet(1, 0, 999), reserve(258, 1), unreserve(258)])[-16:], plain)
+
+    def test_the_journal_as_it_is_answered(self):
+        self.assertEqual(ask([begin(), journal()]), [[0], [0]])
+        self.assertEqual(last(SET_UP + [journal()]), [53, *SUBNET_ROW])
+        self.assertEqual(last(SET_UP + [class_of(5, 9), journal(), journal()], 2),
+                         [[72, *SUBNET_ROW, *row(5, 3, 5, 9)]] * 2)
 
     def test_every_row_that_the_calls_write(self):
-        at = (3, 8)
         cases = [
-            ([subnet(2, 0, 9, 1, 2, TOP, 4)], plain_row(1, [at, (2, 1), (0, 4), (9, 4), (1, 8), (2, 8), (TOP, 8), (4, 8)])),
-            ([hole(1, 11, 12)], plain_row(2, [at, (1, 1), (11, 4), (12, 4)])),
-            ([reserve(11, MOST_CLIENT)], plain_row(3, [at, (11, 4), (MOST_CLIENT, 6)])),
-            ([reserve(11, 5), unreserve(11)], plain_row(4, [at, (11, 4)])),
-            ([class_of(5, 255)], plain_row(5, [at, (5, 6), (255, 1)])),
-            ([class_of(5, 255), class_of(5, 0)], plain_row(5, [at, (5, 6), (0, 1)])),
-            ([limit(1, 2, MOST_ADDRESS)], plain_row(6, [at, (1, 1), (2, 1), (MOST_ADDRESS, 4)])),
-            ([option(3, 5, 9)], plain_row(7, [at, (3, 1), (5, 6), (9, 1)])),
-            ([option(3, 5, 9, range(64))], plain_row(7, [at, (3, 1), (5, 6), (9, 1)], range(64))),
-            ([option(3, 5, 9), unoption(3, 5, 9)], plain_row(8, [at, (3, 1), (5, 6), (9, 1)])),
-            (lend(5, 15), plain_row(9, [at, (15, 4), (5, 6), (1, 8), (13, 8)])),
-            (lend(5, 15) + [renew(5, 15, 1, 70)], plain_row(9, [at, (15, 4), (5, 6), (1, 8), (73, 8)])),
-            (lend(5, 15) + [request(5, 15, 70)], plain_row(9, [at, (15, 4), (5, 6), (1, 8), (73, 8)])),
+            ([subnet(2, 0, 9, 1, 2, TOP, 4)], row(1, 3, 2, 0, 9, 1, 2, TOP, 4)),
+            ([hole(1, 11, 12)], row(2, 3, 1, 11, 12)),
+            ([reserve(11, MOST_CLIENT)], row(3, 3, 11, MOST_CLIENT)),
+            ([reserve(11, 5), unreserve(11)], row(4, 3, 11)),
+            ([class_of(5, 255)], row(5, 3, 5, 255)),
+            ([class_of(5, 255), class_of(5, 0)], row(5, 3, 5, 0)),
+            ([limit(1, 2, MOST_ADDRESS)], row(6, 3, 1, 2, MOST_ADDRESS)),
+            ([option(3, 5, 9)], row(7, 3, 3, 5, 9)),
+            ([option(3, 5, 9, range(64))], row(7, 3, 3, 5, 9, value=range(64))),
+            ([option(3, 5, 9), unoption(3, 5, 9)], row(8, 3, 3, 5, 9)),
+            (lend(5, 15), row(9, 3, 15, 5, 1, 13)),
+            (lend(5, 15) + [renew(5, 15, 1, 70)], row(9, 3, 15, 5, 1, 73)),
+            (lend(5, 15) + [request(5, 15, 70)], row(9, 3, 15, 5, 1, 73)),
+            (lend(5, 15) + [tick(2), release(5, 15, 1)], row(10, 5, 15, 1)),
+            (lend(5, 15) + [tick(2), decline(5, 15, 1)], row(11, 5, 15, 1, 12)),
         ]
-        for calls, row in cases:
+        for calls, expected in cases:
             with self.subTest(calls=calls):
-                before = served(SET_UP + calls[:-1]).journal
-                self.assertEqual(served(SET_UP + calls).journal, before + row)
+                self.assertEqual(stored(SET_UP + calls), stored(SET_UP + calls[:-1]) + expected)
 
     def test_rows_stand_one_behind_the_other(self):
         self.assertEqual(
-            served([begin(), tick(TOP), reserve(1, 1), class_of(5, 1), tick(0), class_of(5, 2)]).journal,
-            plain_row(5, [(TOP, 8), (5, 6), (1, 1)]) + plain_row(5, [(TOP, 8), (5, 6), (2, 1)]),
+            stored([begin(), tick(TOP), reserve(1, 1), class_of(5, 1), tick(0), class_of(5, 2)]),
+            joined(row(5, TOP, 5, 1), row(5, TOP, 5, 2)),
         )
 
     def test_what_writes_nothing(self):
         calls = SET_UP + lend(5, 15)
-        before = served(calls).journal
-        for call in (tick(3), discover(1, 5), discover(1, 6), discover(9, 6), subnet(), class_of(5, 0), renew(5, 15, 9)):
-            self.assertEqual(served(calls + [call]).journal, before)
+        before = stored(calls)
+        for call in (
+            tick(3), discover(1, 5), discover(1, 6), discover(9, 6), subnet(), class_of(5, 0), renew(5, 15, 9),
+            release(5, 15, 9), decline(6, 15, 1), options(1, 5, [1]), lease(15), leases(5), ending(), usage(), journal(),
+            offers(), crash(0), load(before), begin(63),
+        ):
+            self.assertEqual(stored(calls + [call]), before)
 
 
 class Applied(unittest.TestCase):
@@ -111,10 +117,9 @@ class Applied(unittest.TestCase):
         self.assertEqual(kept.limits, {(1, 0): 5})
 
     def test_a_lease(self):
-        kept = served(SET_UP + lend(5, 15) + [renew(5, 15, 1, 70)]).kept
-        record = kept.records[15]
-        self.assertEqual((record.address, record.client, record.number, record.end, record.kind), (15, 5, 1, 73, 0))
-        self.assertEqual((kept.count, len(kept.records)), (1, 1))
+        calls = SET_UP + lend(5, 15) + [renew(5, 15, 1, 70)]
+        self.assertEqual(last(calls + [lease(15)]), [15, 5, 1, 73, 0])
+        self.assertEqual((served(calls).kept.count, len(served(calls).kept.records)), (1, 1))
 
 
 class Room(unittest.TestCase):
@@ -138,6 +143,8 @@ class Room(unittest.TestCase):
         self.just_fits(53 + 38, subnet(), *lend(5, 15))
         self.just_fits(53 + 38 + 38, subnet(), *lend(5, 15), renew(5, 15, 1))
         self.just_fits(53 + 38 + 38, subnet(), *lend(5, 15), request(5, 15))
+        self.just_fits(53 + 38 + 24, subnet(), *lend(5, 15), release(5, 15, 1))
+        self.just_fits(53 + 38 + 32, subnet(), *lend(5, 15), decline(5, 15, 1))
 
     def test_no_room_comes_last_of_all(self):
         """A journal of 53 + 38 bytes is full: what else refuses a call is told all the same."""
@@ -149,7 +156,8 @@ class Room(unittest.TestCase):
             (unreserve(12), -8), (class_of(5, 0), -7), (class_of(5, 1), -9), (limit(2, 0, 0), -4), (limit(1, 0, 0), -9),
             (option(0, 1, 1), -6), (option(0, 0, 1), -9), (unoption(0, 0, 1), -8), (request(5, 16), -12),
             (request(7, 16), -8), (request(6, 16), -9), (request(5, 15), -9), (renew(5, 15, 2), -8), (renew(5, 15, 1), -9),
-            (option(0, 0, 256), -2),
+            (option(0, 0, 256), -2), (release(5, 15, 2), -8), (release(5, 15, 1), -9), (decline(5, 15, 2), -8),
+            (decline(5, 15, 1), -9), (release(5, 15, -1), -2), (decline(5, 15, -1), -2),
         ):
             with self.subTest(call=call):
                 self.assertEqual(last(full + [call]), [refusal])
