@@ -3,8 +3,8 @@
 import unittest
 
 from helper import (
-    MOST_ADDRESS, TOP, ask, begin, compact, crash, discover, ending, joined, journal, last, leases, lend, load, offers,
-    option, options, row, subnet, tick, usage,
+    MOST_ADDRESS, TOP, ask, begin, class_of, compact, crash, discover, ending, joined, journal, last, leases, lend,
+    limit, load, offers, option, options, reserve, row, subnet, tick, unoption, unreserve, usage,
 )
 from lentstretch.server import answers
 
@@ -88,10 +88,45 @@ class Bounds(unittest.TestCase):
         self.assertEqual(given[5:9], [3, 319, 10, 60])
         self.assertEqual(last(calls), [0, 0, 300, 100, 2 ** 32 - 64 * 19 - 100])
 
+    def fills_up(self, stored, calls, one_more, one_less):
+        """1024 of a thing, some loaded, the others by calls: there's no room for one more till there is one less."""
+        calls = [begin(), load(stored), *calls, one_more, crash(0), one_more, one_less, one_more, one_more]
+        self.fits(calls)
+        given = ask(calls)
+        self.assertEqual(given[2:-6], [[0]] * len(given[2:-6]))
+        self.assertEqual([given[-6], given[-4], given[-3], given[-2]], [[-5], [-5], [0], [0]])
+        self.assertEqual(given[-5][0], given[1][0] + len(given[2:-6]))
+        return given[-1]
+
+    def test_1024_reservations(self):
+        stored = joined(WIDE, *[row(3, 0, address, 5) for address in range(640)])
+        calls = [reserve(address, 5) for address in range(640, 1024)]
+        self.assertEqual(self.fills_up(stored, calls, reserve(1024, 5), unreserve(9)), [-7])
+
+    def test_1024_classes(self):
+        stored = joined(*[row(5, 0, client, 1) for client in range(700)])
+        calls = [class_of(client, 2) for client in range(700, 1024)]
+        self.assertEqual(self.fills_up(stored, calls, class_of(1024, 3), class_of(9, 0)), [-7])
+
+    def test_1024_options(self):
+        stored = joined(*[row(7, 0, 3, who, 9) for who in range(680)])
+        calls = [option(3, who, 9) for who in range(680, 1024)]
+        self.assertEqual(self.fills_up(stored, calls, option(0, 0, 9), unoption(3, 9, 9)), [0])
+
+    def test_1024_limits(self):
+        """A limit can't be taken away: it can only be told anew."""
+        subnets = [row(1, 0, ident, ident, ident, 1, 1, 1, 1) for ident in range(5)]
+        pairs = [(ident, cls) for ident in range(4) for cls in range(256)]
+        stored = joined(*subnets, *[row(6, 0, ident, cls, 7) for ident, cls in pairs[:750]])
+        calls = [begin(), load(stored)] + [limit(ident, cls, 7) for ident, cls in pairs[750:]]
+        calls += [limit(4, 0, 7), crash(0), limit(4, 0, 7), limit(3, 255, 8)]
+        self.fits(calls)
+        self.assertEqual(ask(calls)[2:], [[0]] * 274 + [[-5], [5 + 1024, 5 * 53 + 1024 * 18], [-5], [0]])
+
     def test_the_last_row_of_a_full_journal(self):
         stored = joined(*[row(5, 0, client, 1) for client in range(789)])
-        given = last([begin(len(stored)), load(stored), [6, 999, 1], compact(), crash(1), [6, 999, 1], compact()], 5)
-        self.assertEqual(given, [[-9], [-9], [788, 788 * 19], [0], [-9]])
+        calls = [begin(len(stored)), load(stored), class_of(999, 1), compact(), crash(1), class_of(999, 1), compact()]
+        self.assertEqual(last(calls, 5), [[-9], [-9], [788, 788 * 19], [0], [-9]])
 
 
 if __name__ == "__main__":
